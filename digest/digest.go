@@ -33,8 +33,9 @@ func (h *Hash) Write(b []byte) {
 		b = b[n:]
 	}
 	for len(b) >= pieceBytes {
-		h.state = mix(h.state, wordsOf([pieceBytes]byte(b)))
-		b = b[pieceBytes:]
+		n := copy(h.tail[:], b)
+		h.state = mix(h.state, wordsOf(h.tail))
+		b = b[n:]
 	}
 	copy(h.tail[:], b)
 }

@@ -2,7 +2,10 @@ package digest
 
 import "pergola/api"
 
-const digits = "0123456789abcdef"
+const (
+	digits    = "0123456789abcdef"
+	textBytes = 64
+)
 
 // Less is the order of digests.
 func Less(a, b api.Digest) bool {
@@ -16,7 +19,7 @@ func Less(a, b api.Digest) bool {
 
 // Print writes one as text.
 func Print(d api.Digest) string {
-	var text [2 * len(d)]byte
+	var text [textBytes]byte
 	for i, b := range d {
 		text[2*i] = digits[b>>4]
 		text[2*i+1] = digits[b&15]
@@ -26,10 +29,10 @@ func Print(d api.Digest) string {
 
 // Parse reads one.
 func Parse(s string) (api.Digest, bool) {
-	var d api.Digest
-	if len(s) != 2*len(d) {
+	if len(s) != textBytes {
 		return api.Digest{}, false
 	}
+	var d api.Digest
 	for i := range d {
 		high, okHigh := digit(s[2*i])
 		low, okLow := digit(s[2*i+1])
